@@ -1,7 +1,6 @@
 """What integers and names are, and how the words of a plan stand beside one another."""
 
 MARKS = ("+", "*", "2", "3", "4")
-DEEPER = {"(": 1, ")": -1}
 DEEPEST = 4
 LONGEST_NAME = 8
 
@@ -38,7 +37,10 @@ def is_spelled(words):
     # At the beginning stands what can stand behind a bar.
     before = "|"
     for word in words:
-        depth = depth + DEEPER.get(word, 0)
+        if word == "(":
+            depth = depth + 1
+        if word == ")":
+            depth = depth - 1
         if not can_follow(before, word) or not 0 <= depth <= DEEPEST:
             return False
         before = word
