@@ -1,5 +1,6 @@
 """Values of all kinds, for what must refuse or take any value."""
 
+from treadplans.cloths import Cloth
 from treadplans.drafts import Draft
 from treadplans.plans import Plan
 
@@ -20,6 +21,7 @@ PLAIN = (
 VALUES = [
     0, 1, -1, 999999999, True, False, None, '', 'a', 'a b', 'blue\n', (), ('a',), ('a', 1), (('a',), ['b']),
     [], ['a'], [[1], {}], {}, {'a': 1}, {1: [2]}, nested(20), Plan('a'), Draft(PLAIN),
+    Cloth(Draft(PLAIN), ('a', 'b'), ('p',)),
 ]
 
 NO_STRINGS = [value for value in VALUES if not isinstance(value, str)]
