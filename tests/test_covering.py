@@ -380,16 +380,18 @@ class TestTooMany(unittest.TestCase):
 
     def test_the_order_in_same(self):
         one, other = GOES_NOT
-        # That one does not cover the other one is too many; the other way about there is a cloth.
+        # Whether one covers the other one is too many; the other way about there is a cloth, which is told first.
         self.assertEqual(covers(other, one)[0], 'not')
         self.assertEqual(same(one, other)[0], 'one')
         self.assertEqual(refused(TooMany, same, other, one), 3000)
         self.assertEqual(refused(BadBy, same, other, one, by=0), 0)
-        # One that covers the other one, which is told first.
-        narrow = one.with_plans('d b c', 'p')
-        free = one.with_plans('( a | b | c | d ) + ( a | b | c | d ) *', 'p')
+        # Here the other one covers it, so that both ways are asked for.
+        narrow = crossed(LIFTS, 'b * b a + d', 'p')
+        free = crossed(LIFTS, '( a | b | c | d ) +', 'p')
         self.assertEqual(covers(free, narrow)[0], 'covers')
-        self.assertEqual(same(narrow, free)[0], 'other')
+        self.assertEqual(refused(TooMany, covers, narrow, free), 3000)
+        self.assertEqual(refused(TooMany, same, narrow, free), 3000)
+        self.assertEqual(refused(TooMany, same, free, narrow), 3000)
 
 
 class TestSame(unittest.TestCase):
