@@ -6,6 +6,7 @@ import unittest
 from treadplans.cloths import Cloth, alike
 from treadplans.drafts import Draft
 from treadplans.errors import BadBy, BadRow, BadThread
+from tests.threads import all_threads, come_to, lies_above, parts_of, runs
 from tests.values import PLAIN, VALUES, refused
 from tests.weaving import LOOKS, Told, random_cloth_rows, random_draft
 
@@ -20,61 +21,6 @@ def random_cloths(seed, many, yarns=True):
     for _ in range(many):
         draft = random_draft(chosen, yarns=yarns)
         yield Cloth(draft, *random_cloth_rows(chosen, draft))
-
-
-def all_threads(cloth):
-    return [('end', at) for at in range(len(cloth.ends))] + [('pick', at) for at in range(len(cloth.picks))]
-
-
-def lies_above(cloth, thread):
-    """At which crossings a thread lies above."""
-    told = Told(cloth.draft)
-    sort, number = thread
-    if sort == 'end':
-        return [told.is_above(cloth.ends[number], pick) for pick in cloth.picks]
-    return [not told.is_above(end, cloth.picks[number]) for end in cloth.ends]
-
-
-def runs(sides):
-    """All stretches of equal members that cannot be made longer."""
-    last = len(sides) - 1
-    return tuple((one, other, 'face' if sides[one] else 'back')
-                 for one in range(len(sides)) for other in range(one, len(sides))
-                 if len(set(sides[one:other + 1])) == 1
-                 and (one == 0 or sides[one - 1] != sides[one]) and (other == last or sides[other + 1] != sides[one]))
-
-
-def come_to(cloth):
-    """For each thread the threads to which one comes, by no step or more; threads of a yarn are one."""
-    told = Told(cloth.draft)
-    threads = all_threads(cloth)
-    names = {thread: (cloth.ends if thread[0] == 'end' else cloth.picks)[thread[1]] for thread in threads}
-    steps = {thread: set() for thread in threads}
-    for one in threads:
-        for other in threads:
-            if any({names[one], names[other]} <= yarn for yarn in told.yarns):
-                steps[one].add(other)
-            if one[0] != other[0] and lies_above(cloth, one)[other[1]]:
-                steps[one].add(other)
-    found = {}
-    for start in threads:
-        found[start] = {start}
-        waiting = [start]
-        while waiting:
-            for after in steps[waiting.pop()] - found[start]:
-                found[start].add(after)
-                waiting.append(after)
-    return found
-
-
-def parts_of(found):
-    """The parts of the threads, each as the document has it, and the pairs of which the first is above."""
-    groups = {frozenset(other for other in found[one] if one in found[other]): one for one in found}
-    told = sorted((tuple(sorted(at for sort, at in group if sort == 'end')),
-                   tuple(sorted(at for sort, at in group if sort == 'pick')), groups[group]) for group in groups)
-    above = tuple((one, other) for one in range(len(told)) for other in range(len(told))
-                  if one != other and told[other][2] in found[told[one][2]])
-    return tuple((ends, picks) for ends, picks, _ in told), above
 
 
 class TestCloth(unittest.TestCase):
@@ -146,9 +92,9 @@ class TestFloats(unittest.TestCase):
     def test_floats_at_random(self):
         longest = 0
         for cloth in random_cloths(2, 150):
-            for thread in all_threads(cloth):
+            for thread in all_threads(cloth.ends, cloth.picks):
                 floats = cloth.floats(thread)
-                self.assertEqual(floats, runs(lies_above(cloth, thread)))
+                self.assertEqual(floats, runs(lies_above(Told(cloth.draft), cloth.ends, cloth.picks, thread)))
                 longest = max([longest] + [last - first for first, last, _ in floats])
         self.assertGreater(longest, 3)
 
@@ -166,7 +112,7 @@ class TestFloats(unittest.TestCase):
             ('end', None), ('end', (0,)), (['end'], 0), (cloth, 0), ('end', cloth), (True, 0), ('a', 0), cloth]
         for value in wrong:
             self.assertIs(refused(BadThread, cloth.floats, value), value)
-        for thread in all_threads(cloth):
+        for thread in all_threads(cloth.ends, cloth.picks):
             cloth.floats(thread)
 
 
@@ -175,7 +121,7 @@ class TestParts(unittest.TestCase):
         shapes = set()
         for yarns in (True, False):
             for cloth in random_cloths(3, 500, yarns):
-                parts, above = parts_of(come_to(cloth))
+                parts, above = parts_of(come_to(Told(cloth.draft), cloth.ends, cloth.picks))
                 told = (cloth.draft.text, cloth.ends, cloth.picks)
                 self.assertEqual((cloth.parts, cloth.above), (parts, above), told)
                 self.assertEqual(cloth.parts, tuple(sorted(cloth.parts)))

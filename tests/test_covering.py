@@ -11,7 +11,7 @@ from treadplans.errors import BadBy, TooMany
 from tests.papers import Judge
 from tests.values import PLAIN, VALUES, refused
 from tests.weaving import (
-    LOOKS, Told, other_names, other_order, random_draft, with_random_plans, written_otherwise)
+    LOOKS, Told, missing, other_names, other_order, pictures, random_draft, with_random_plans, written_otherwise)
 
 plain = Draft(PLAIN)
 TWILL = Draft('\n'.join((
@@ -37,23 +37,6 @@ def drafts_beside(seed, many, kinds=2, places=4, most=300):
         if max(judges[0].many_rows() + judges[1].many_rows()) <= most:
             many -= 1
             yield one, other, by
-
-
-def pictures(draft, width, height, by):
-    """All pictures of a size, each with a cloth of the draft that shows it."""
-    told = Told(draft)
-    ends, picks = told.rows_by_length(max(width, height))
-    return {told.picture(row, across, by): (row, across) for row in ends[width] for across in picks[height]}
-
-
-def missing(one, other, by, threads):
-    """The pictures of other with so many threads that one lacks."""
-    found = {}
-    for width in range(1, threads):
-        sizes = (width, threads - width, by)
-        has = pictures(one, *sizes)
-        found.update({picture: rows for picture, rows in pictures(other, *sizes).items() if picture not in has})
-    return found
 
 
 def without(rows, at):

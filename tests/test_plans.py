@@ -341,7 +341,8 @@ class TestOperators(unittest.TestCase):
 
 class TestCounted(unittest.TestCase):
     def test_counted(self):
-        self.assertEqual([Plan('( a | b ) +').counted(many) for many in range(13)], [0] + [2 ** n for n in range(1, 13)])
+        self.assertEqual([Plan('( a | b ) +').counted(many) for many in range(13)],
+                         [0] + [2 ** n for n in range(1, 13)])
         self.assertEqual([Plan('( a b ) +').counted(many) for many in range(5)], [0, 0, 1, 0, 1])
         self.assertEqual([Plan('a').counted(many) for many in range(3)], [0, 1, 0])
         self.assertEqual(Plan('a').counted(many=1), 1)

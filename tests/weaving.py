@@ -58,6 +58,23 @@ class Told:
         return both
 
 
+def pictures(draft, width, height, by):
+    """All pictures of a size, each with a cloth of the draft that shows it."""
+    told = Told(draft)
+    ends, picks = told.rows_by_length(max(width, height))
+    return {told.picture(row, across, by): (row, across) for row in ends[width] for across in picks[height]}
+
+
+def missing(one, other, by, threads):
+    """The pictures of other with so many threads that one lacks."""
+    found = {}
+    for width in range(1, threads):
+        sizes = (width, threads - width, by)
+        has = pictures(one, *sizes)
+        found.update({picture: rows for picture, rows in pictures(other, *sizes).items() if picture not in has})
+    return found
+
+
 def random_draft(chosen, kinds=3, places=4, colours='xy', yarns=False):
     """A draft whose kinds have one letter each."""
     picks = 'abc'[:chosen.randint(1, kinds)]

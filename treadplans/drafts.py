@@ -133,8 +133,7 @@ class Draft:
 
     def colour(self, name):
         """The colour of any kind."""
-        if name not in self.ends and name not in self.picks:
-            raise BadName(name)
+        self.kinds_beside(name)
         return self._colours[name]
 
     def shown(self, end, pick):
@@ -162,6 +161,13 @@ class Draft:
         lines = self.text.split("\n")
         lines[len(self.picks) + self.ends.index(end)] = self._end_line(end, lifts)
         return Draft("\n".join(lines))
+
+    def kinds_beside(self, name):
+        """All kinds of the sort of a kind, itself among them: BadName."""
+        for kinds in (self.ends, self.picks):
+            if name in kinds:
+                return kinds
+        raise BadName(name)
 
     def _check_crossing(self, end, pick):
         """Raises BadEnd, then BadPick, for any value that is no kind of the sort."""

@@ -5,6 +5,8 @@ from treadplans.words import backwards, is_spelled, is_within, read_choices
 
 MOST_PLACES = 8
 LONGEST_COUNTED = 12
+# The place behind which rows begin; it is none of a plan, and no row can end at it.
+BEFORE = -1
 COPIES = {"2": 2, "3": 3, "4": 4}
 
 
@@ -151,14 +153,7 @@ class Plan:
         return self._named[at]
 
     def __contains__(self, x):
-        if not isinstance(x, tuple):
-            return False
-        reached = []
-        ahead = self.firsts
-        for name in x:
-            reached = [place for place in ahead if self._named[place] == name]
-            ahead = self._next_to_any(reached)
-        return self._can_end(reached)
+        return isinstance(x, tuple) and self.can_end(self.led_to((BEFORE,), x))
 
     def __eq__(self, other):
         return isinstance(other, Plan) and self.text == other.text
@@ -187,13 +182,11 @@ class Plan:
         """How many different rows of so many names the plan has."""
         if not is_within(many, 0, LONGEST_COUNTED):
             raise BadNumber(many)
-        if many == 0:
-            return 0
         # Each row comes to just one tuple of places, so none is counted twice.
-        rows = {places: 1 for places in self._by_name(self.firsts)}
-        for _ in range(many - 1):
+        rows = {(BEFORE,): 1}
+        for _ in range(many):
             rows = self._counted_further(rows)
-        return sum([rows[places] for places in rows if self._can_end(places)])
+        return sum([rows[places] for places in rows if self.can_end(places)])
 
     def used(self):
         """The ascending tuple of all ascending tuples of names that are just those of some row."""
@@ -211,37 +204,59 @@ class Plan:
     def shortest(self):
         """The first row of the plan, by length, then in Python's order."""
         least = {place: (self._named[place],) for place in self.firsts}
-        while not self._can_end(least):
+        while not self.can_end(least):
             least = self._least_further(least)
         return min([least[place] for place in least if place in self.lasts])
+
+    def can_end(self, places):
+        """Whether a row can end at one of the places."""
+        return any([place in self.lasts for place in places])
+
+    def led_to(self, places, names):
+        """The ascending tuple of the places to which these names lead that stand behind some places."""
+        for name in names:
+            places = tuple([place for place in self._next_to_any(places) if self._named[place] == name])
+        return places
+
+    def ways_on(self, places):
+        """All names that can stand behind some places, ascending, each with the tuple of its places there."""
+        groups = {}
+        for place in self._next_to_any(places):
+            name = self._named[place]
+            groups[name] = groups.get(name, ()) + (place,)
+        return [(name, groups[name]) for name in sorted(groups)]
+
+    def way(self, starts, goals):
+        """The places along a shortest way from one of the starts to one of the goals; there must be one."""
+        ways = {start: (start,) for start in starts}
+        while not any([goal in ways for goal in goals]):
+            longer = {after: ways[place] + (after,) for place in ways for after in self._nexts[place]}
+            ways = {**longer, **ways}
+        return min([ways[goal] for goal in goals if goal in ways], key=len)
+
+    def names_at(self, places):
+        """The names at some places, one behind the other."""
+        return tuple([self._named[place] for place in places])
 
     def _check_place(self, place):
         """Raises BadPlace for any value that is no place."""
         if not is_within(place, 0, len(self._named) - 1):
             raise BadPlace(place)
 
-    def _can_end(self, places):
-        """Whether a row can end at one of the places."""
-        return any([place in self.lasts for place in places])
-
     def _next_to_any(self, places):
         """The ascending list of the places that can come right behind one of the places."""
-        return sorted({after for place in places for after in self._nexts[place]})
+        return sorted({after for place in places for after in self._behind(place)})
 
-    def _by_name(self, places):
-        """The places, ascending, in one tuple for each name that stands at some of them."""
-        groups = {}
-        for place in places:
-            name = self._named[place]
-            groups[name] = groups.get(name, ()) + (place,)
-        return [groups[name] for name in groups]
+    def _behind(self, place):
+        """The places that can come right behind a place, or BEFORE."""
+        return self.firsts if place == BEFORE else self._nexts[place]
 
     def _counted_further(self, rows):
         """From how many rows come to each tuple of places: how many come to each by one name more."""
         longer = {}
         for places in rows:
-            for group in self._by_name(self._next_to_any(places)):
-                longer[group] = longer.get(group, 0) + rows[places]
+            for _, reached in self.ways_on(places):
+                longer[reached] = longer.get(reached, 0) + rows[places]
         return longer
 
     def _least_further(self, least):
