@@ -8,6 +8,7 @@ from treadplans.cloths import Cloth
 from treadplans.drafts import Draft
 from treadplans.errors import BadSide, BadSort
 from treadplans.floats import calmest, longest, shows_longest
+from treadplans.holding import apart, holds
 from tests.threads import all_threads, lies_above, runs
 from tests.values import PLAIN, VALUES, refused
 from tests.weaving import Told, other_names, other_order, random_cloth_rows, random_draft, written_otherwise
@@ -87,8 +88,10 @@ def rounds_hold(draft, sort, side, value):
 
 class TestLongest(unittest.TestCase):
     def test_the_examples(self):
-        self.assertEqual([longest(plain, 'end', 'face')[:2], longest(TWILL, 'end', 'back')[0]],
-                         [('most', 1), 'endless'])
+        self.assertEqual(
+            [longest(plain, 'end', 'face')[:2], longest(TWILL, 'end', 'back')[0], holds(plain)[0],
+             apart(TWILL, 'c', 'c')[0]],
+            [('most', 1), 'endless', 'falls', 'cloth'])
         self.assertEqual(longest(side='face', draft=plain, sort='end')[:2], ('most', 1))
 
     def check(self, draft, sort, side):

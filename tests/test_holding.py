@@ -88,6 +88,20 @@ class TestHolds(unittest.TestCase):
             self.assertEqual(holds(draft)[0], result[0])
         self.assertGreater(min(answers.values()), 40, answers)
 
+    def test_against_all_small_cloths(self):
+        answers = set()
+        for draft in drafts(16, 60) + held_drafts(17, 60):
+            told = Told(draft)
+            rows = [sum(by_length.values(), []) for by_length in told.rows_by_length(3)]
+            many = [len(parts_of(come_to(told, *cloth))[0]) for cloth in itertools.product(*rows)]
+            result = holds(draft)
+            if result == ('holds',):
+                self.assertLessEqual(set(many), {1})
+            elif max(len(result[1].ends), len(result[1].picks)) < 4:
+                self.assertGreater(max(many), 1)
+            answers.add((result[0], len(many) > 20))
+        self.assertEqual(len(answers), 4)
+
     def test_yarns(self):
         lines = ['pick p x', 'pick q x', 'pick r x', 'end a x #..', 'end b x .#.', 'end c x ..#']
         free = ['threading ( a | b | c ) +', 'treadling ( p | q | r ) +']
