@@ -183,12 +183,17 @@ def is_paper(threaded, treadled, value):
     return unmet(endings(threaded, ends), endings(treadled, picks)) == []
 
 
-def ending_beside(beside, row):
-    """The ending to which a row of the second plan leads."""
+def rows_beside(beside, row):
+    """The places, with their least bits, to which the first plan leads beside the beginning of a row of the second."""
     rows = first_rows(beside, row[0])
     for name in row[1:]:
         rows = later_rows(beside, rows, name)
-    return ending(beside, rows)
+    return rows
+
+
+def ending_beside(beside, row):
+    """The ending to which a row of the second plan leads."""
+    return ending(beside, rows_beside(beside, row))
 
 
 def is_missing(one, cloth, by):
