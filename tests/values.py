@@ -1,7 +1,10 @@
 """Values of all kinds, for what must refuse or take any value."""
 
 from treadplans.cloths import Cloth
+from treadplans.desk import Desk
 from treadplans.drafts import Draft
+from treadplans.errors import BadPlan
+from treadplans.looms import Loom
 from treadplans.plans import Plan
 
 
@@ -18,10 +21,14 @@ PLAIN = (
     'threading ( a b ) +\ntreadling ( p q ) + | p'
 )
 
+LOOM = Loom(Draft(PLAIN), ('a', 'b'))
+LOOM.weave('p')
+
 VALUES = [
     0, 1, -1, 999999999, True, False, None, '', 'a', 'a b', 'blue\n', (), ('a',), ('a', 1), (('a',), ['b']),
     [], ['a'], [[1], {}], {}, {'a': 1}, {1: [2]}, nested(20), Plan('a'), Draft(PLAIN),
-    Cloth(Draft(PLAIN), ('a', 'b'), ('p',)),
+    Cloth(Draft(PLAIN), ('a', 'b'), ('p',)), Loom(Draft(PLAIN), ('a', 'b')), LOOM, Desk(LOOM), BadPlan('a'),
+    (LOOM, [LOOM]),
 ]
 
 NO_STRINGS = [value for value in VALUES if not isinstance(value, str)]
