@@ -66,8 +66,8 @@ def row_along(plan, way):
 
 def row_with(plan, name):
     """A row in which a name of the plan stands."""
-    place = min([place for place in range(len(plan)) if plan[place] == name])
-    return row_along(plan, (place,))[0]
+    places = [place for place in range(len(plan)) if plan[place] == name]
+    return row_along(plan, (places[0],))[0]
 
 
 def round_along(plan, way):
