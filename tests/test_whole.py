@@ -94,8 +94,8 @@ ATTRIBUTES = {
     'Loom': 'draft ends picks can is_whole left face floating'}
 
 ERRORS = (
-    'BadPlan BadPlace BadNumber BadDraft BadEnd BadPick BadName BadRow BadThread BadBy BadPairs TooMany BadSort BadSide '
-    'BadPicture NotNow BadPicks NotWhole NothingToUndo NothingToRedo BadText BadJournal BadLine').split()
+    'BadPlan BadPlace BadNumber BadDraft BadEnd BadPick BadName BadRow BadThread BadBy BadPairs TooMany BadSort '
+    'BadSide BadPicture NotNow BadPicks NotWhole NothingToUndo NothingToRedo BadText BadJournal BadLine').split()
 
 
 def parameters(function):
@@ -240,6 +240,30 @@ class TestConventions(unittest.TestCase):
                 loom.could(one, 'face')
             with self.assertRaises(TypeError):
                 loom.tried(len, True)
+
+    def test_classes_and_methods_by_names(self):
+        plain = Draft(text=PLAIN)
+        plan, cloth = Plan(text='( a b ) +'), Cloth(picks=('p',), ends=('a', 'b'), draft=plain)
+        told = [
+            (plan.next(place=1), plan.next(1)), (plan.counted(many=4), plan.counted(4)),
+            (plain.is_above(pick='p', end='b'), plain.is_above('b', 'p')), (plain.colour(name='q'), plain.colour('q')),
+            (plain.shown(pick='q', end='a'), plain.shown('a', 'q')),
+            (plain.hidden(pick='q', end='a'), plain.hidden('a', 'q')),
+            (plain.with_plans(treadling='q', threading='b'), plain.with_plans('b', 'q')),
+            (plain.flipped(pick='q', end='b'), plain.flipped('b', 'q')), (cloth, Cloth(plain, ('a', 'b'), ('p',))),
+            (cloth.floats(thread=('end', 1)), cloth.floats(('end', 1))), (plain, Draft(PLAIN)),
+            (plan, Plan('( a b ) +'))]
+        for one, other in told:
+            self.assertEqual(one, other)
+        loom, other = Loom(ends=('a', 'b'), draft=plain), Loom(plain, ('a', 'b'))
+        self.assertEqual(loom.weave(name='p'), other.weave('p'))
+        self.assertEqual(loom.weave_all(picks=('q', 'p')), other.weave_all(('q', 'p')))
+        self.assertEqual(loom.could(by='both', other=plain), other.could(plain, by='both'))
+        self.assertEqual(loom.tried(keep=True, look=Loom.finished), other.tried(Loom.finished, keep=True))
+        self.assertEqual(Desk(loom=loom).say(line='picks'), Desk(other).say('picks'))
+        self.assertEqual(everything(loom), everything(other))
+        for method in (loom.undo, loom.redo):
+            self.assertIsNone(method())
 
     def test_only_what_is_described_is_equal(self):
         plain = Draft(PLAIN)
